@@ -113,6 +113,9 @@ func (in Instruction) appendFarJump(to []byte, form Form) []byte {
 
 func (in Instruction) number(k int) int { return in.Operands[k].Number }
 
+// IsJump says whether it is a jump or a far jump.
+func (o Op) IsJump() bool { return o.Kind == Jump || o.Kind == FarJump }
+
 func (o Op) isConditional() bool { return o.Kind == Jump && o.Number > Subroutine }
 
 func addsShort(value int) bool { return within(value, 1, 8) }

@@ -2,6 +2,7 @@ package code
 
 import (
 	"fmt"
+	"slices"
 	"testing"
 )
 
@@ -24,6 +25,46 @@ func TestFind(t *testing.T) {
 		if op, ok := Find(word); ok || op != (Op{}) {
 			t.Errorf("Find(%q): %v, %v; want nothing", word, op, ok)
 		}
+	}
+}
+
+func TestWordIsTheWayBackFromFind(t *testing.T) {
+	words := []string{"jmp", "jsr", "jmp.w", "jsr.w", "jmp.l", "jsr.l"}
+	for _, row := range fixedWords {
+		words = append(words, row.word)
+	}
+	for _, stem := range jumpWords {
+		words = append(words, stem, stem+".s", stem+".w", stem+".l")
+	}
+	for _, word := range words {
+		if op, ok := Find(word); !ok || op.Word() != word {
+			t.Errorf("%q is found as %v (%v), which is %q", word, op, ok, op.Word())
+		}
+	}
+	if word := (Op{}).Word(); word != "" {
+		t.Errorf("no instruction is %q", word)
+	}
+}
+
+func TestRoles(t *testing.T) {
+	for _, c := range []struct {
+		kind  Kind
+		count int
+		want  string
+	}{
+		{Empty, 1, ""}, {Plain, 1, ""}, {Pair, 0, "d d "}, {Quick, 0, "# d "}, {AddValue, 9, "# d "}, {Jump, 2, "p "}, {FarJump, 0, "p "}, {Space, 0, "n "}, {Align, 2, "n "}, {Org, 2, "n "},
+		{Words, 0, "p "}, {Words, 3, "p p p "}, {Bytes, 8, "p p p p p p p p "}, {Bytes, 9, "p p p p p p p p "},
+	} {
+		got := ""
+		for _, role := range c.kind.Roles(c.count) {
+			got += []string{Register: "d", Value: "#", Number: "n", Place: "p"}[role] + " "
+		}
+		if got != c.want {
+			t.Errorf("kind %d, %d operands: %q; want %q", c.kind, c.count, got, c.want)
+		}
+	}
+	if Register.Mark() != "d" || Value.Mark() != "#" || Number.Mark() != "" || Place.Mark() != "" {
+		t.Error("wrong marks")
 	}
 }
 
@@ -133,5 +174,29 @@ func TestAllows(t *testing.T) {
 	}
 	if Align.Allows(6) || !Align.Allows(64) || Org.Allows(7) || !Jump.Allows(-99999999) {
 		t.Error("wrong numbers between the bounds")
+	}
+}
+
+func TestMatch(t *testing.T) {
+	for _, c := range []struct {
+		bytes   string
+		address int
+		word    string
+		numbers []int
+	}{
+		{"\x4e\x71\x4e\x75", 0, "nop", nil}, {"\x34\x01", 0, "move", []int{1, 2}}, {"\x7e\x80", 0, "moveq", []int{-128, 7}},
+		{"\x50\x47", 0, "addi", []int{8, 7}}, {"\x52\x40", 0, "addi", []int{1, 0}}, {"\x06\x41\xff\xff", 0, "addi", []int{65535, 1}},
+		{"\x6f\xfe", 100, "ble.s", []int{100}}, {"\x60\x00\x80\x00", 0x8000, "bra.w", []int{2}}, {"\x61\x00\x00\x00", 6, "bsr.w", []int{8}},
+		{"\x4e\xf8\x7f\xfe", 0, "jmp.w", []int{0x7ffe}}, {"\x4e\xb9\x00\xff\xff\xfe", 0, "jsr.l", []int{0xfffffe}},
+	} {
+		in, ok := Match(c.bytes, c.address)
+		if want := instructionOf(t, c.word, c.numbers...); !ok || in.Op != want.Op || !slices.Equal(in.Operands, want.Operands) {
+			t.Errorf("Match(% x, %d): %v, %v; want %s %v", c.bytes, c.address, in, ok, c.word, c.numbers)
+		}
+	}
+	for _, bytes := range []string{"", "\x4e", "\x4e\x70", "\x06\x41\x00\x08", "\x06\x41\x00", "\x60\x01", "\x60\xfc", "\x60\x00", "\x60\x00\x00\x01", "\x4e\xf8\x80\x00", "\x4e\xf9\x01\x00\x00\x00", "\x4e\xf9\x00\x00\x00", "\x71\x00", "\x00\x00"} {
+		if in, ok := Match(bytes, 0); ok || in.Op != (Op{}) || in.Operands != nil {
+			t.Errorf("Match(% x, 0): %v, %v; want nothing", bytes, in, ok)
+		}
 	}
 }

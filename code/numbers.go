@@ -45,6 +45,9 @@ func (o Op) Fits(form Form, address, target int) bool {
 // distance is what a jump adds to the program counter, which stands behind its first word by then.
 func distance(address, target int) int { return target - address - 2 }
 
+// target is the way back from distance.
+func target(address, by int) int { return address + 2 + by }
+
 func isPlace(number int) bool { return within(number, 0, api.MaxPlace) && !isOdd(number) }
 
 func isOdd(number int) bool { return number&1 != 0 }

@@ -14,7 +14,7 @@ const (
 	AddValue             // addi
 	Jump                 // bra, bsr, and b with a condition
 	FarJump              // jmp, jsr
-	Words                // dc.w
+	Words                // dc.w; from here on what lays down data, or nothing
 	Bytes                // dc.b
 	Space                // ds
 	Align
@@ -108,6 +108,14 @@ const (
 	farSubroutineBase = 0x4eb8
 )
 
+var farWords = [...]struct {
+	word string
+	base int
+}{
+	{"jmp", farJumpBase},
+	{"jsr", farSubroutineBase},
+}
+
 // Find tells the instruction that has this word.
 func Find(word string) (Op, bool) {
 	for _, row := range fixedWords {
@@ -118,26 +126,51 @@ func Find(word string) (Op, bool) {
 	stem, first, last := cutForm(word)
 	for number, jump := range jumpWords {
 		if jump == stem {
-			return Op{Kind: Jump, Base: 0x6000 + 0x100*number, Number: Condition(number), First: first, Last: last}, true
+			return jumpOp(Condition(number), first, last), true
 		}
 	}
-	return findFar(stem, first, last)
+	for _, row := range farWords {
+		if row.word == stem && last != Short {
+			return farJumpOp(row.base, max(first, Word), last), true
+		}
+	}
+	return Op{}, false
 }
 
-func findFar(stem string, first, last Form) (Op, bool) {
-	if last == Short {
-		return Op{}, false
+// Word is the way back from Find.
+func (o Op) Word() string {
+	switch o.Kind {
+	case Jump:
+		return jumpWords[o.Number] + o.ending()
+	case FarJump:
+		for _, row := range farWords {
+			if row.base == o.Base {
+				return row.word + o.ending()
+			}
+		}
 	}
-	op := Op{Kind: FarJump, First: max(first, Word), Last: last}
-	switch stem {
-	case "jmp":
-		op.Base = farJumpBase
-	case "jsr":
-		op.Base = farSubroutineBase
-	default:
-		return Op{}, false
+	for _, row := range fixedWords {
+		if row.kind == o.Kind && row.base == o.Base {
+			return row.word
+		}
 	}
-	return op, true
+	return ""
+}
+
+// ending names the form of a jump that has one alone.
+func (o Op) ending() string {
+	if o.First < o.Last {
+		return ""
+	}
+	return formEndings[o.First]
+}
+
+func jumpOp(number Condition, first, last Form) Op {
+	return Op{Kind: Jump, Base: 0x6000 + 0x100*int(number), Number: number, First: first, Last: last}
+}
+
+func farJumpOp(base int, first, last Form) Op {
+	return Op{Kind: FarJump, Base: base, First: first, Last: last}
 }
 
 // cutForm takes the ending that names a form off a word; without one all forms are open.

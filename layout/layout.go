@@ -121,10 +121,7 @@ func (p *Plan) firstThat(holds func(k int) bool) int {
 // misses says whether line k has a jump that does not fit.
 func (p *Plan) misses(k int) bool {
 	line := p.program.Lines[k]
-	if line.Kind != code.Jump && line.Kind != code.FarJump {
-		return false
-	}
-	return !line.Fits(p.forms[k], p.starts[k], p.number(line.Operands[0]))
+	return line.IsJump() && !line.Fits(p.forms[k], p.starts[k], p.number(line.Operands[0]))
 }
 
 // overflows says whether line k has a name whose place its instruction can't hold.

@@ -3,6 +3,7 @@ package strider
 
 import (
 	"strider/api"
+	"strider/back"
 	"strider/layout"
 	"strider/read"
 )
@@ -26,7 +27,7 @@ func Names(source string) ([]api.Name, int, api.Errno) {
 }
 
 // Disassemble makes a source of an image (P6).
-func Disassemble(image api.Image) (string, api.Errno) { return "", api.OK }
+func Disassemble(image api.Image) (string, api.Errno) { return back.Source(image) }
 
 // layOut is what Assemble and Names have in common, so that both tell the same errors.
 func layOut(source string) (layout.Plan, int, api.Errno) {

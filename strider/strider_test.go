@@ -13,15 +13,21 @@ import (
 
 func lines(l ...string) string { return strings.Join(l, "\n") }
 
-// checkImage holds an image that must be against the one that is.
-func checkImage(t *testing.T, promise, source string, org int, bytes string) {
+func bytesOf(t *testing.T, text string) string {
 	t.Helper()
-	want, err := hex.DecodeString(strings.ReplaceAll(bytes, " ", ""))
+	bytes, err := hex.DecodeString(strings.ReplaceAll(text, " ", ""))
 	if err != nil {
 		t.Fatal(err)
 	}
+	return string(bytes)
+}
+
+// checkImage holds an image that must be against the one that is.
+func checkImage(t *testing.T, promise, source string, org int, bytes string) {
+	t.Helper()
+	want := bytesOf(t, bytes)
 	image, line, errno := strider.Assemble(source)
-	if image != (api.Image{Org: org, Bytes: string(want)}) || line != 0 || errno != api.OK {
+	if image != (api.Image{Org: org, Bytes: want}) || line != 0 || errno != api.OK {
 		t.Errorf("%s: %q: Org %d: % x, line %d, error %d; want Org %d: % x", promise, source, image.Org, image.Bytes, line, errno, org, want)
 	}
 }
